@@ -1,0 +1,1 @@
+"""Guesscode: a hidden row of colours, and asks that tell it."""
