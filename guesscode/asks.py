@@ -15,15 +15,24 @@ def is_ask(game, thing):
     return is_pair(thing) and is_code(game, thing[0]) and is_answer(game, thing[1])
 
 
-# The game is one that has been checked.
-def checked_asks(game, asks):
+# The game is one that has been checked; is_one(game, thing) tells what may stand in the list.
+def checked_list(game, things, is_one):
     # A list that is too long is no such list, whatever stands in it.
-    if not isinstance(asks, list) or len(asks) > MOST_ASKS:
+    if not isinstance(things, list) or len(things) > MOST_ASKS:
         raise BadAsk(0)
-    for at, ask in enumerate(asks):
-        if not is_ask(game, ask):
+    for at, thing in enumerate(things):
+        if not is_one(game, thing):
             raise BadAsk(at)
-    return asks
+    return things
+
+
+def checked_asks(game, asks):
+    return checked_list(game, asks, is_ask)
+
+
+# Guesses alone are refused like asks.
+def checked_guesses(game, guesses):
+    return checked_list(game, guesses, is_code)
 
 
 def fits_ask(code, ask):

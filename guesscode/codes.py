@@ -1,10 +1,11 @@
 """Games, their codes, and how two codes answer each other."""
 
-from guesscode.errors import BadCode, BadGame
+from guesscode.errors import BadCode, BadGame, TooBig
 
 MOST_PLACES = 5
 MOST_COLOURS = 8
 MOST_CODES = 300
+MOST_CODES_SEARCHED = 16
 
 
 # True and False are whole numbers to Python, but not here.
@@ -34,6 +35,13 @@ def is_game(thing):
 def checked_game(game):
     if not is_game(game):
         raise BadGame("no game: a tuple of 1 to 5 places and 1 to 8 colours, with at most 300 codes")
+    return game
+
+
+# For those that search whole games. The game is one that has been checked.
+def small_game(game):
+    if how_many_codes(game[0], game[1]) > MOST_CODES_SEARCHED:
+        raise TooBig("a game of more than 16 codes")
     return game
 
 

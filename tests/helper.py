@@ -1,7 +1,8 @@
 """What the tests share: a second, plainer reckoning of what is promised, and things of many kinds."""
 
 from collections import Counter
-from itertools import combinations, product
+from functools import lru_cache
+from itertools import combinations, permutations, product
 from random import Random
 
 NO_PLAIN_THINGS = [
@@ -40,11 +41,15 @@ NO_LISTS = [thing for thing in NO_PLAIN_THINGS if not isinstance(thing, list)] +
 
 ALL_GAMES = [(places, colours) for places in range(1, 6) for colours in range(1, 9) if colours ** places <= 300]
 
+SMALL_GAMES = [game for game in ALL_GAMES if game[1] ** game[0] <= 16]
+BIG_GAMES = [game for game in ALL_GAMES if game not in SMALL_GAMES]
+
 
 def plain_codes(game):
     return list(product(range(game[1]), repeat=game[0]))
 
 
+@lru_cache(maxsize=None)
 def plain_answer(hidden, guess):
     right = sum(one == other for one, other in zip(hidden, guess))
     return right, sum((Counter(hidden) & Counter(guess)).values()) - right
@@ -84,6 +89,66 @@ def plain_played(game, hidden):
         guess = plain_best_guess(game, asks)
         asks.append((guess, plain_answer(hidden, guess)))
     return asks
+
+
+@lru_cache(maxsize=None)
+def plain_can_tell(game, fitting, asks_left):
+    """Whether so many asks more tell which code of the fitting ones it is, whatever is answered."""
+    if len(fitting) == 1:
+        return True
+    if asks_left == 0:
+        return False
+    for guess in plain_codes(game):
+        answers = {plain_answer(code, guess) for code in fitting}
+        parts = [frozenset(code for code in fitting if plain_answer(code, guess) == told) for told in answers]
+        if all(plain_can_tell(game, part, asks_left - 1) for part in parts):
+            return True
+    return False
+
+
+def plain_fewest_asks(game, fitting):
+    return next(many for many in range(17) if plain_can_tell(game, frozenset(fitting), many))
+
+
+def plain_answers(code, guesses):
+    return [plain_answer(code, guess) for guess in guesses]
+
+
+def plain_alike_by(game, guesses):
+    for one, other in combinations(plain_codes(game), 2):
+        if plain_answers(one, guesses) == plain_answers(other, guesses):
+            return one, other
+    return None
+
+
+def plain_fewest_settling(game):
+    for size in range(17):
+        for guesses in combinations(plain_codes(game), size):
+            if plain_alike_by(game, guesses) is None:
+                return list(guesses)
+    raise AssertionError("all codes together settle all")
+
+
+def plain_named(code, places, colours):
+    named = {places[place]: colours[code[place]] for place in range(len(code))}
+    return tuple(named[place] for place in range(len(code)))
+
+
+def plain_orders(game):
+    return list(product(permutations(range(game[0])), permutations(range(game[1]))))
+
+
+def plain_least_like(game, guess):
+    return min(plain_named(guess, places, colours) for places, colours in plain_orders(game))
+
+
+def plain_shown(asks):
+    return "".join("".join(chr(ord("a") + colour) for colour in guess) + " %d %d\n" % told for guess, told in asks)
+
+
+def every_ask(game):
+    """All asks of the game, also those with answers that no code gives."""
+    return list(product(plain_codes(game), product(range(game[0] + 1), repeat=2)))
 
 
 def some_asks(game, seed, how_many, true_ones):

@@ -5,23 +5,27 @@ from itertools import product
 
 from guesscode.asks import needless, settled, what_fits, why_clash
 from guesscode.errors import BadAsk, BadGame, Clash
+from guesscode.naming import renamed
+from guesscode.plans import a_plan, fewest_asks
 from guesscode.splits import best_guess, foe_answer, split
+from guesscode.texts import shown
 from tests.helper import (
-    NO_ASKS, NO_GAMES, NO_LISTS, plain_answer, plain_codes, plain_fits, plain_needless, plain_why_clash, some_asks)
+    NO_ASKS, NO_GAMES, NO_LISTS, every_ask, plain_answer, plain_codes, plain_fits, plain_needless, plain_why_clash,
+    some_asks)
 
 GAME = (2, 3)
 ASK = ((0, 1), (1, 0))
 
 TAKE_ASKS = [
-    what_fits, why_clash, needless, settled, best_guess,
+    what_fits, why_clash, needless, settled, best_guess, fewest_asks, a_plan, shown,
     lambda game, asks: split(game, asks, (0, 0)),
     lambda game, asks: foe_answer(game, asks, (0, 0)),
+    lambda game, asks: renamed(game, asks, (0, 1), (0, 1, 2)),
 ]
 
 
 def every_pair_of_asks(game):
-    asks = list(product(plain_codes(game), product(range(game[0] + 1), repeat=2)))
-    return [list(pair) for pair in product(asks, repeat=2)]
+    return [list(pair) for pair in product(every_ask(game), repeat=2)]
 
 
 class WhatAreAsks(unittest.TestCase):

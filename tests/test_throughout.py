@@ -6,7 +6,11 @@ from copy import deepcopy
 from guesscode.asks import needless, settled, what_fits, why_clash
 from guesscode.codes import all_answers, all_codes, answer, checked_game
 from guesscode.errors import BadAsk, BadCode, BadGame, Clash, GuessError
+from guesscode.naming import least_guess_like, renamed
+from guesscode.plans import a_plan, fewest_asks
+from guesscode.settling import alike_by, fewest_settling, settle_all
 from guesscode.splits import best_guess, foe_answer, played, split
+from guesscode.texts import read, shown
 
 GAME = (2, 3)
 FITTING = [((0, 0), (1, 0)), ((0, 1), (1, 0)), ((0, 0), (1, 0))]
@@ -14,8 +18,11 @@ CLASHING = [((0, 1), (1, 0)), ((0, 1), (0, 1))]
 SPOILT = [((0, 1), (1, 0)), ((0, 3), (0, 1))]
 LISTS_OF_ASKS = [[], FITTING, CLASHING, SPOILT, [((0, 1), (1, 0))] * 9, [[[0, 1], [1, 0]]]]
 
-BY_ASKS = [what_fits, why_clash, needless, settled, best_guess]
+LISTS_OF_GUESSES = [[], [(0, 1)], [(0, 1), (0, 2)], [(0, 1), (0, 3)], [(0, 1)] * 9, [[0, 1]]]
+
+BY_ASKS = [what_fits, why_clash, needless, settled, best_guess, fewest_asks, a_plan, shown]
 BY_ASKS_AND_GUESS = [split, foe_answer]
+BY_GUESSES = [settle_all, alike_by]
 
 TOLD_LISTS = [
     lambda: all_codes(GAME),
@@ -30,6 +37,13 @@ TOLD_LISTS = [
     lambda: split(GAME, FITTING, (0, 1)),
     lambda: played(GAME, (2, 1)),
     lambda: played((1, 1), (0,)),
+    lambda: fewest_settling(GAME),
+    lambda: fewest_settling((1, 1)),
+    lambda: renamed(GAME, [], (0, 1), (0, 1, 2)),
+    lambda: renamed(GAME, FITTING, (0, 1), (0, 1, 2)),
+    lambda: renamed(GAME, FITTING, (1, 0), (2, 0, 1)),
+    lambda: read(GAME, ""),
+    lambda: read(GAME, "ab 1 0\ncc 0 0\n"),
 ]
 
 
@@ -54,14 +68,23 @@ class NothingIsChanged(unittest.TestCase):
                 self.check_unchanged(call, GAME, deepcopy(asks))
             for call in BY_ASKS_AND_GUESS:
                 self.check_unchanged(call, GAME, deepcopy(asks), (0, 1))
+            self.check_unchanged(renamed, GAME, deepcopy(asks), (1, 0), (1, 2, 0))
+
+    def test_guesses_stay_as_they_were(self):
+        for guesses in LISTS_OF_GUESSES:
+            for call in BY_GUESSES:
+                self.check_unchanged(call, GAME, deepcopy(guesses))
 
     def test_what_is_refused_stays_as_it_was(self):
         for thing in [[2, 3], [], {2: 3}, {"places": 2}, [[0, 1]]]:
-            for call in [checked_game, all_codes, all_answers]:
+            for call in [checked_game, all_codes, all_answers, fewest_settling]:
                 self.check_unchanged(call, deepcopy(thing))
             self.check_unchanged(answer, GAME, deepcopy(thing), deepcopy(thing))
             self.check_unchanged(split, GAME, [], deepcopy(thing))
             self.check_unchanged(played, GAME, deepcopy(thing))
+            self.check_unchanged(least_guess_like, GAME, deepcopy(thing))
+            self.check_unchanged(renamed, GAME, [], deepcopy(thing), deepcopy(thing))
+            self.check_unchanged(read, GAME, deepcopy(thing))
 
 
 class NothingIsKept(unittest.TestCase):
@@ -90,6 +113,10 @@ class NothingIsKept(unittest.TestCase):
         for call in [what_fits, needless]:
             call(GAME, asks).append("spoilt")
             self.assertEqual(asks, [])
+        for asks in [[], list(FITTING)]:
+            before = list(asks)
+            renamed(GAME, asks, (0, 1), (0, 1, 2)).append("spoilt")
+            self.assertEqual(asks, before)
 
     def test_asks_changed_between_calls_are_read_anew(self):
         asks = [((0, 0), (0, 0))]
@@ -100,6 +127,24 @@ class NothingIsKept(unittest.TestCase):
         asks[1] = ((0, 0), (2, 0))
         self.assertEqual(what_fits(GAME, asks), [])
         self.assertEqual(why_clash(GAME, asks), [0, 1])
+
+    def test_plans_are_made_anew(self):
+        asks = []
+        self.assertEqual(fewest_asks(GAME, asks), 2)
+        asks.append(((0, 1), (0, 2)))
+        self.assertEqual(fewest_asks(GAME, asks), 0)
+        self.assertEqual(a_plan(GAME, asks), (1, 0))
+        self.assertEqual(fewest_asks((1, 3), []), 2)
+        asks.clear()
+        self.assertEqual(fewest_asks(GAME, asks), 2)
+
+    def test_guesses_changed_between_calls_are_read_anew(self):
+        guesses = [(0, 1)]
+        self.assertEqual(alike_by(GAME, guesses), ((0, 0), (0, 2)))
+        guesses.append((0, 2))
+        self.assertIs(settle_all(GAME, guesses), True)
+        guesses.clear()
+        self.assertEqual(alike_by(GAME, guesses), ((0, 0), (0, 1)))
 
 
 class TrueAndFalseAreNoNumbers(unittest.TestCase):
@@ -112,6 +157,14 @@ class TrueAndFalseAreNoNumbers(unittest.TestCase):
             self.assertRaises(BadCode, played, GAME, code)
             self.assertRaises(BadAsk, what_fits, GAME, [(code, (1, 0))])
             self.assertRaises(BadAsk, what_fits, GAME, [((1, 1), code)])
+            self.assertRaises(BadAsk, fewest_asks, GAME, [(code, (1, 0))])
+            self.assertRaises(BadAsk, a_plan, GAME, [((1, 1), code)])
+            self.assertRaises(BadAsk, settle_all, GAME, [code])
+            self.assertRaises(BadAsk, alike_by, GAME, [(1, 1), code])
+            self.assertRaises(BadAsk, shown, GAME, [((1, 1), code)])
+            self.assertRaises(BadCode, least_guess_like, GAME, code)
+        for places, colours in [((False, True), (0, 1, 2)), ((0, True), (0, 1, 2)), ((0, 1), (0, True, 2))]:
+            self.assertRaises(BadCode, renamed, GAME, [], places, colours)
 
 
 class TheFirstRefusalIsTold(unittest.TestCase):
